@@ -1,0 +1,1 @@
+"""Rowsintime: rows of signals, watchers with clocks, and all times at once."""
