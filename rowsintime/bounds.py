@@ -17,13 +17,6 @@ def is_upper(thing):
     return thing[0] in ("upto", "below") and is_integer(thing[1])
 
 
-def told_bound(bound):
-    """A bound as it is told: None or a tuple."""
-    if bound is None:
-        return None
-    return (bound[0], bound[1])
-
-
 def code_of(bound):
     if bound is None:
         return None
@@ -80,9 +73,7 @@ def breaking_code(code):
 
 
 def is_kept(code, worth):
-    """Whether a fraction keeps the bound of this code."""
-    if code is None:
-        return True
+    """Whether a fraction keeps the bound of this code, not None."""
     number = code // 2
     if code % 2 == 1:
         return worth[0] <= number * worth[1]

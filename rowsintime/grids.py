@@ -47,8 +47,6 @@ def closed_grid(table):
 
 def bounded(grid, one, other, code):
     """The closed grid of the points of a closed one that keep one bound more, None if there are none."""
-    if code is None:
-        return grid
     ring_sum = code_sum(grid[other][one], code)
     if ring_sum is not None and ring_sum < UPTO_ZERO:
         return None

@@ -45,11 +45,10 @@ def one_by_one(signals, lanes, firsts, ends):
         for signal in signals:
             heard = [to for spot in lots[at] for to in steps.get((spot, signal), [])]
             lot = quietly_reached(steps, heard)
-            if lot and lot not in numbers:
+            if lot not in numbers:
                 numbers[lot] = len(lots)
                 lots.append(lot)
-            if lot:
-                moves[at, signal] = numbers[lot]
+            moves[at, signal] = numbers[lot]
         at += 1
     return (len(lots), moves, [k for k in range(len(lots)) if has_any(goals, lots[k])])
 
@@ -62,9 +61,7 @@ def least_of(signals, machine):
     """The least machine of the same rows, its spots numbered by the first rows that lead there."""
     many, moves, ends = machine
     useful = spots_before(machine)
-    if 0 not in useful:
-        return (1, {}, [])
-    kept = {key: moves[key] for key in moves if key[0] in useful and moves[key] in useful}
+    kept = {key: moves[key] for key in moves if moves[key] in useful}
     marks = marks_of(signals, (many, kept, ends))
     numbers = {marks[0]: 0}
     order = [0]
@@ -138,7 +135,7 @@ def paired_lanes(signals, one, other, kept):
                 pairs.append(pair)
             lanes.append((at, signal, numbers[pair]))
         at += 1
-    ends = [k for k, pair in enumerate(pairs) if (pair[0] in one[2], pair[1] in other[2]) in kept]
+    ends = [k for k, spots in enumerate(pairs) if (spots[0] in one[2], spots[1] in other[2]) in kept]
     return (lanes, ends)
 
 
@@ -151,8 +148,6 @@ def spot_behind(machine, row):
         if not isinstance(signal, str):
             return None
         spot = moves.get((spot, signal))
-        if spot is None:
-            return None
     return spot
 
 

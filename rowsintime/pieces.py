@@ -95,8 +95,7 @@ def lots_of(grid):
 
 
 def pairs_round(lot):
-    if len(lot) == 1:
-        return []
+    """Each one and the next, the last and the first; one alone has no bound with itself to be told."""
     return [(one, lot[(at + 1) % len(lot)]) for at, one in enumerate(lot)]
 
 

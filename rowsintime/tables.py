@@ -1,6 +1,6 @@
 """Tables of differences: upper bounds for the worths of some names, less one another and less the begin."""
 
-from rowsintime.bounds import is_upper, told_bound
+from rowsintime.bounds import is_upper
 from rowsintime.errors import BadBound, BadNames, NoName, SameName
 from rowsintime.kinds import bad_name_at
 
@@ -58,4 +58,4 @@ def ordered_bounds(names, bounds):
             raise BadBound(key)
     spots = [""] + names
     pairs = [(one, other) for one in spots for other in spots]
-    return {pair: told_bound(bounds[pair]) for pair in pairs if bounds.get(pair) is not None}
+    return {pair: tuple(bounds[pair]) for pair in pairs if bounds.get(pair) is not None}
