@@ -59,28 +59,33 @@ def positive_grid(grid):
 
 def begun(table, names):
     """All points, the worths of some names being 0 instead."""
-    bad = bad_choice_at(names, table.names())
-    if bad is not None:
-        raise BadNames(bad)
-    grid = closed_grid(table)
-    if grid is None:
-        return None
+    check_choice(table, names)
     # A name that is begun stands in the place of the begin from now on.
-    stands = [0] + [0 if name in names else at + 1 for at, name in enumerate(table.names())]
-    return table_of(table.names(), [[grid[i][j] for j in stands] for i in stands])
+    places = [0 if name in names else at + 1 for at, name in enumerate(table.names())]
+    return replaced(table, table.names(), places)
 
 
 def without(table, names):
     """The parts of all points that are about the other names."""
+    check_choice(table, names)
+    kept = [name for name in table.names() if name not in names]
+    places = [at + 1 for at, name in enumerate(table.names()) if name not in names]
+    return replaced(table, kept, places)
+
+
+def check_choice(table, names):
     bad = bad_choice_at(names, table.names())
     if bad is not None:
         raise BadNames(bad)
+
+
+def replaced(table, names, places):
+    """The closed table about names, each of which takes its bounds from a place of the closed grid of a table."""
     grid = closed_grid(table)
     if grid is None:
         return None
-    kept = [name for name in table.names() if name not in names]
-    stands = [0] + [at + 1 for at, name in enumerate(table.names()) if name not in names]
-    return table_of(kept, [[grid[i][j] for j in stands] for i in stands])
+    places = [0] + places
+    return table_of(names, [[grid[i][j] for j in places] for i in places])
 
 
 def both(one, other):
