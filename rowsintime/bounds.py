@@ -78,3 +78,12 @@ def is_kept(code, worth):
     if code % 2 == 1:
         return worth[0] <= number * worth[1]
     return worth[0] < number * worth[1]
+
+
+def loosened(code, upper, lower):
+    """The code of a bound of two without what lies beyond the numbers of the first and the second, None for no such."""
+    if code is None or (upper is not None and code > 2 * upper + 1):
+        return None
+    if lower is not None and code <= -2 * lower:
+        return -2 * lower
+    return code

@@ -1,6 +1,6 @@
 """Changes of tables, each told by its points: closed tables, None where there are no points."""
 
-from rowsintime.bounds import UPTO_ZERO, code_of, is_upper, tighter_code
+from rowsintime.bounds import UPTO_ZERO, code_of, is_upper, loosened, tighter_code
 from rowsintime.errors import BadBound, BadMost, BadNames
 from rowsintime.grids import (
     bounded, check_alike_names, closed_grid, grid_of, looser_grid, shut, table_of, tighter_grid)
@@ -127,14 +127,3 @@ def check_most(names, most):
     for name in names:
         if not is_count(most.get(name)):
             raise BadMost(name)
-
-
-def loosened(code, upper, lower):
-    """A bound's code without what lies beyond the numbers of its first and its second one."""
-    if code is None:
-        return None
-    if upper is not None and code // 2 > upper:
-        return None
-    if lower is not None and code < code_of(("upto", -lower)):
-        return code_of(("below", -lower))
-    return code

@@ -28,6 +28,10 @@ def is_fraction(thing):
     return is_integer(thing[0]) and is_integer(thing[1]) and thing[1] >= 1
 
 
+def is_time(thing):
+    return is_fraction(thing) and thing[0] >= 0
+
+
 def bad_name_at(things):
     """The index of the first thing that is no name or stood before, 0 for no list; None if all are well."""
     if not is_list(things):

@@ -12,3 +12,12 @@ def lowest(top, bottom):
 def difference(one, other):
     """How much the one fraction is more than the other, perhaps not in lowest terms."""
     return (one[0] * other[1] - other[0] * one[1], one[1] * other[1])
+
+
+def total(one, other):
+    """The sum of two fractions, in lowest terms."""
+    return lowest(one[0] * other[1] + other[0] * one[1], one[1] * other[1])
+
+
+def is_less(one, other):
+    return one[0] * other[1] < other[0] * one[1]
