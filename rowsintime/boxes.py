@@ -2,14 +2,12 @@
 
 from rowsintime.bounds import UPTO_ZERO
 from rowsintime.ratios import lowest
-from rowsintime.stretches import lower_told, met, upper_told
-
-ANY_WORTH = (0, None)
+from rowsintime.stretches import ANY_NUMBER, lower_told, met, upper_told
 
 
 def whole_box(many):
     """The box of all worths of so many clocks."""
-    return [ANY_WORTH for _ in range(many)]
+    return [ANY_NUMBER for _ in range(many)]
 
 
 def box_of(many, conditions):

@@ -10,12 +10,11 @@ from rowsintime.kinds import is_count, is_time
 from rowsintime.lots import are_lots, check_place, is_closed, lots_by_place
 from rowsintime.passing import entry, first_entry, tighten_all, waited, worths_grid, zero_grid
 from rowsintime.plans import plan_of, with_age
-from rowsintime.points import parts_of
 from rowsintime.ratios import lowest
 from rowsintime.runs import run_stand
 from rowsintime.steps import scale_of, window
 from rowsintime.stretches import lower_told, merged, stretch_told
-from rowsintime.timing import bounds_along, least_times, timed
+from rowsintime.timing import bounds_along, run_up_to, timed
 
 AGE = "age"
 
@@ -104,18 +103,6 @@ def run_at(watcher, place, time):
     aged = with_age(plan, [last], None)
     way = shortest_way(aged, lambda to, grid: to == place and has_age(aged, grid, end))
     return None if way is None else run_up_to(plan, way, end)
-
-
-def run_up_to(plan, way, end):
-    """A run by a way, that some run to this end goes by, whose last time is the end."""
-    many = len(way)
-    # As many parts of a unit as run_along takes, and as many parts of these that the end is a whole number of them.
-    parts = (many + 1) * end[1]
-    bounds, _ = bounds_along(plan, way)
-    steps = [(i, j, parts_of(code, parts)) for i, j, code in bounds]
-    last = end[0] * (many + 1)
-    found = least_times(many + 1, steps + [(many, 0, last), (0, many, -last)])
-    return [(number, lowest(found[at + 1], parts)) for at, number in enumerate(way)]
 
 
 def has_age(plan, grid, time):

@@ -4,6 +4,17 @@ LETTERS = "abcdefghijklmnopqrstuvwxyz"
 LONGEST_NAME = 8
 
 
+def letters(number):
+    """The name with this number: a to z, aa, ab and so on."""
+    name = ""
+    number = number + 1
+    while number > 0:
+        number = number - 1
+        name = LETTERS[number % 26] + name
+        number = number // 26
+    return name
+
+
 def is_integer(thing):
     return isinstance(thing, int) and not isinstance(thing, bool)
 

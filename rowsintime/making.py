@@ -2,7 +2,7 @@
 
 from rowsintime.boxes import cuts_of
 from rowsintime.errors import BadSignals, Lacks
-from rowsintime.kinds import LETTERS, bad_name_at
+from rowsintime.kinds import bad_name_at, letters
 from rowsintime.runs import check_sure
 from rowsintime.watchers import Watcher
 from rowsintime.wholes import BOTH, EITHER, LESS, Pair, Whole, telling_whole
@@ -61,14 +61,3 @@ def watcher_made(signals, one, other, table):
     for at, signal, box, begun, to in pair.arrows:
         arrows.append((letters(at), signal, cuts_of(clocks, box), [clocks[clock - 1] for clock in begun], letters(to)))
     return Watcher(clocks, limits, arrows, [letters(at) for at in pair.ends()])
-
-
-def letters(number):
-    """The name with this number: a to z, aa, ab and so on."""
-    name = ""
-    number = number + 1
-    while number > 0:
-        number = number - 1
-        name = LETTERS[number % 26] + name
-        number = number // 26
-    return name

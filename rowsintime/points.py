@@ -24,14 +24,21 @@ def is_point(table, thing):
 
 def point(table):
     """A point of the table, None if it has none."""
-    grid = grid_of(table)
-    # A ring has at most as many "below" as the grid has rows: so many parts of a unit, all taken away, leave
+    worths = worths_in(grid_of(table), 1)
+    if worths is None:
+        return None
+    return {name: worths[at + 1] for at, name in enumerate(table.names())}
+
+
+def worths_in(grid, scale):
+    """Fractions, the first one 0, that keep a grid in parts of a unit, so many of these to one; None if none do."""
+    # A ring has at most as many "below" as the grid has rows: so many parts of a number, all taken away, leave
     # more than -1 of a sum of bounds, and whole numbers of these parts tell all that fractions tell.
     parts = len(grid) + 1
     heights = heights_of([[parts_of(code, parts) for code in row] for row in grid])
     if heights is None:
         return None
-    return {name: lowest(heights[at + 1] - heights[0], parts) for at, name in enumerate(table.names())}
+    return [lowest(height - heights[0], parts * scale) for height in heights]
 
 
 def parts_of(code, parts):

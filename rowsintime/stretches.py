@@ -5,6 +5,18 @@ An EDGE is an integer: 2 * n stands just ahead of the number n, 2 * n + 1 just b
 edge of a lower bound is 1 less the code of the contrary.
 """
 
+# All numbers from 0 on.
+ANY_NUMBER = (0, None)
+
+
+def stretch_of(word, number):
+    """The stretch of the numbers from 0 on that are from, above, upto or below a number from 0 on."""
+    if word == "from":
+        return (2 * number, None)
+    if word == "above":
+        return (2 * number + 1, None)
+    return (0, 2 * number + 1 if word == "upto" else 2 * number)
+
 
 def met(one, other):
     """The numbers that two stretches have in common, None if there are none."""

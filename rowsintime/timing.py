@@ -57,3 +57,15 @@ def run_along(plan, way):
     # A ring has at most as many bounds told with below as there are times, the begin among them: so many parts
     # of a unit, all taken away, leave more than -1 of a whole number of units.
     return timed(way, bounds, len(way) + 1)
+
+
+def run_up_to(plan, way, end):
+    """A run by a way, that some run to this end goes by, whose last time is the end."""
+    many = len(way)
+    # As many parts of a unit as run_along takes, and as many parts of these that the end is a whole number of them.
+    parts = (many + 1) * end[1]
+    bounds, _ = bounds_along(plan, way)
+    steps = [(i, j, parts_of(code, parts)) for i, j, code in bounds]
+    last = end[0] * (many + 1)
+    found = least_times(many + 1, steps + [(many, 0, last), (0, many, -last)])
+    return [(number, lowest(found[at + 1], parts)) for at, number in enumerate(way)]

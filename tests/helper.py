@@ -607,3 +607,48 @@ def bent_lots(random, lots):
     else:
         random.shuffle(lots)
     return lots
+
+
+# Rules, and what they tell of timed rows, by their words alone.
+
+
+def random_plain(random, signals, most=3):
+    """A since or a soon made up."""
+    word = random.choice(["since", "soon"])
+    bounds = ["upto", "below", "from", "above"] if word == "since" else ["upto", "below"]
+    return (word, random.choice(signals), random.choice(signals), random.choice(bounds), random.randint(0, most))
+
+
+def random_rule(random, signals, depth=3, plain=2, most=3):
+    """A rule made up, with at most so many since and soon, and so deep at most."""
+    if depth == 1 or random.random() < 0.25:
+        return random_plain(random, signals, most)
+    if plain > 1 and random.random() < 0.75:
+        many = random.randint(1, plain - 1)
+        return (random.choice(["both", "either"]), random_rule(random, signals, depth - 1, many, most),
+                random_rule(random, signals, depth - 1, plain - many, most))
+    return ("not", random_rule(random, signals, depth - 1, plain, most))
+
+
+def unkept(rule, row):
+    """The indexes in a row of all signals for which a since or a soon has none that it asks for."""
+    word, signal, other, bound, n = rule
+    found = []
+    for at, (name, time) in enumerate(row):
+        beside = list(row[:at] if word == "since" else row[at + 1:])
+        gaps = [abs(fraction(time) - fraction(to)) for heard, to in beside if heard == other]
+        if name == signal and not any(keeps_cut(("x", bound, n), {"x": gap}) for gap in gaps):
+            found.append(at)
+    return found
+
+
+def is_kept(rule, row):
+    if rule[0] in ("since", "soon"):
+        return not unkept(rule, row)
+    truths = [is_kept(part, row) for part in rule[1:]]
+    return {"not": not truths[0], "both": all(truths), "either": any(truths)}[rule[0]]
+
+
+def as_lists(thing):
+    """The thing with lists for tuples throughout."""
+    return [as_lists(part) for part in thing] if isinstance(thing, (list, tuple)) else thing
