@@ -8,8 +8,11 @@ from fractions import Fraction
 from rowsintime.changes import begun, beyond, cut, later
 from rowsintime.closing import within
 from rowsintime.going import Going
+from rowsintime.houses import House
+from rowsintime.logs import Log
 from rowsintime.rows import Rows
 from rowsintime.tables import Table
+from rowsintime.toldrows import Told
 from rowsintime.watchers import Watcher
 
 PARTS = 12
@@ -25,6 +28,7 @@ def strange_objects():
         Table([], {}), Table(["a"], {}), Table(["a"], {("a", ""): ("upto", -1), ("", "a"): ("upto", 0)}),
         Rows([], [], [], []), Rows(["a"], [(0, "a", 0)], [0], [0]), [Rows(["a"], [], [], [])],
         Watcher([], {"a": {}}, [], []), Going(Watcher(["a"], {"a": {}}, [("a", "a", [], [], "a")], ["a"])),
+        Told(Watcher([], {"a": {}}, [], []), []), Log(Watcher([], {"a": {}}, [], []), []), House(),
     ]
 
 
