@@ -18,7 +18,7 @@ class Hearing:
     """A watcher beside a whole one that tells just the rows that keep a rule: both hear the same.
 
     Its spots are pairs of their places. An arrow is one of the watcher's, at worths at which the whole one moves on
-    to one place; sources are the numbers that the watcher has for them.
+    to one place; it has the number of the watcher's in the place of its signal.
     """
 
     def __init__(self, watcher, rule):
@@ -28,7 +28,6 @@ class Hearing:
         self.whole = telling_whole(watcher_for(rule, signals), signals)
         self.spots = [(self.plan.begin, self.whole.begin)]
         self.arrows = []
-        self.sources = []
         numbers = {self.spots[0]: 0}
         at = 0
         while at < len(self.spots):
@@ -36,8 +35,7 @@ class Hearing:
                 if to not in numbers:
                     numbers[to] = len(self.spots)
                     self.spots.append(to)
-                self.sources.append(source)
-                self.arrows.append((at, self.plan.arrows[source][1], conditions, clocks, numbers[to]))
+                self.arrows.append((at, source, conditions, clocks, numbers[to]))
             at += 1
 
     def moves_from(self, spot):
@@ -58,12 +56,10 @@ class Hearing:
                 if spot[0] in self.ends and (spot[1] in self.whole.goals) == is_kept}
 
     def plan_to(self, goals):
-        """The plan of all by which goals can be come to; each arrow has the number of the watcher's for its signal."""
+        """The plan of all by which goals can be come to."""
         back = steps_of([(to, None, at) for at, _, _, _, to in self.arrows])
         useful = {at: True for at in quietly_reached(back, list(goals) + [0])}
-        arrows = [(at, source, conditions, clocks, to)
-                  for source, (at, _, conditions, clocks, to) in zip(self.sources, self.arrows)
-                  if at in useful and to in useful]
+        arrows = [arrow for arrow in self.arrows if arrow[0] in useful and arrow[4] in useful]
         limits = {at: self.plan.limits[self.spots[at][0]] for at in useful}
         return Plan(self.plan.size + self.whole.width, 0, limits, arrows)
 

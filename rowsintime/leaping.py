@@ -5,7 +5,6 @@ from rowsintime.errors import BadMean, NotFresh
 from rowsintime.kinds import is_fraction, is_integer, is_list
 from rowsintime.machines import quietly_reached, steps_of
 from rowsintime.plans import plan_of
-from rowsintime.steps import can_begin
 from rowsintime.stretches import ANY_NUMBER
 from rowsintime.trails import gone_on, trail_at
 
@@ -30,18 +29,12 @@ def first_circle(arrows, numbers):
     ways = [(number,) for number in numbers]
     while ways:
         for way in ways:
+            # A way that comes to a place twice has a shorter circle in it, which was found ahead of it.
             if arrows[way[-1]][4] == arrows[way[0]][0]:
                 return way
-        ways = [way + (number,) for way in ways for number in numbers if goes_on(arrows, way, number)]
+        ways = [way + (number,) for way in ways for number in numbers
+                if number > way[0] and arrows[number][0] == arrows[way[-1]][4]]
     return None
-
-
-def goes_on(arrows, way, number):
-    """Whether an arrow goes on a way to its begin, or to a place to which the way has not come."""
-    place, _, _, _, to = arrows[number]
-    if number <= way[0] or place != arrows[way[-1]][4]:
-        return False
-    return to != place and to not in [arrows[one][0] for one in way[1:]]
 
 
 def all_leaps(watcher):
@@ -62,8 +55,6 @@ def all_leaps(watcher):
 
 def leaps_from(plan, fresh, start):
     """The leaps of a start, in order."""
-    if start is None and not can_begin(plan):
-        return []
     trails = [trail_at(plan, plan.begin if start is None else plan.arrows[start][4])]
     found = []
     while trails:

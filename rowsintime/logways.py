@@ -8,7 +8,6 @@ from rowsintime.bounds import UPTO_ZERO
 from rowsintime.errors import BadEntry, Looped
 from rowsintime.kinds import is_count, is_list, is_name
 from rowsintime.machines import quietly_reached, steps_of
-from rowsintime.steps import can_begin
 from rowsintime.stretches import ANY_NUMBER, met, stretch_of
 from rowsintime.timing import bounds_along
 from rowsintime.trails import gone_on, stood_on, trail_at
@@ -115,7 +114,7 @@ def trails_of(plan, parts, is_one_enough):
     heard, now = parts
     useful = useful_places(plan, heard)
     found = []
-    level = [(0, trail_at(plan, plan.begin))] if can_begin(plan) and plan.begin in useful[0] else []
+    level = [(0, trail_at(plan, plan.begin))] if plan.begin in useful[0] else []
     while level:
         for many, trail in level:
             ended = stood_on(plan, trail, now) if many == len(heard) else None

@@ -7,6 +7,7 @@ from fractions import Fraction
 
 from rowsintime.heights import are_fast_heights, are_slow_heights, fast_heights, slow_heights
 from rowsintime.rounds import faster, fastest, leaps, slower, slowest
+from rowsintime.watchers import Watcher
 from tests.helper import error_of, fault, fraction, pair_of, strange_objects
 from tests.test_rounds import as_told, doors, leaps_by_hand, means, random_fresh, random_round, rounds_by_hand, timed_doors
 
@@ -91,6 +92,14 @@ class HeightsTest(unittest.TestCase):
         self.assertIsNone(slow_heights(doors(), (10 ** 12, 1)))
         told.clear()
         self.assertEqual(list(fast_heights(watcher, mean)), [0, 1, 3])
+
+    def test_heights_that_are_no_integers(self):
+        watcher = Watcher(["x"], {"p": {}, "q": {}}, [
+            ("p", "a", [("x", "from", 1), ("x", "upto", 2)], ["x"], "q"), ("q", "b", [("x", "from", 4), ("x", "upto", 5)], ["x"], "p")], [])
+        self.assertEqual((fastest(watcher)[0], slowest(watcher)[0]), ((5, 2), (7, 2)))
+        for mean, heights, step in (((5, 2), fast_heights, Fraction(3, 2)), ((7, 2), slow_heights, Fraction(3, 2))):
+            told = heights(watcher, mean)
+            self.assertEqual(fraction(told[1]) - fraction(told[0]), step)
 
     def test_means_below_0(self):
         self.assertIsNotNone(fast_heights(timed_doors(), (-7, 3)))

@@ -379,6 +379,15 @@ class AskTest(unittest.TestCase):
             self.assertEqual(fault(work), wanted)
         self.assertEqual(house.made(), [])
 
+    def test_asks_keep_what_they_make(self):
+        for ask in (lambda house: house.tells("m", "row"), lambda house: house.judged("m", "r"),
+                    lambda house: house.parting("w", "m"), lambda house: house.watcher("m")):
+            house = full()
+            ask(house)
+            self.assertEqual(house.made(), ["b", "m"])
+            ask(house)
+            self.assertEqual((house.made(), house.count()), ([], 8))
+
     def test_w_is_made_ahead_of_other(self):
         house = example()
         house.put("n", "made", ("not", "w"))

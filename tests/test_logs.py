@@ -452,6 +452,14 @@ class WhenTest(unittest.TestCase):
             level = [(way, to) for way, to in behind if watcher.arrows()[way[-1]][1] is None]
         return found
 
+    def test_unseen_arrows_ahead_of_the_next_signal(self):
+        arrows = [("p", None, [("x", "from", 5)], ["x"], "q"), ("q", None, [("x", "above", 1)], [], "r"),
+                  ("r", "bell", [("x", "below", 9)], [], "p"), ("p", "lamp", [], [], "p")]
+        log = Log(Watcher(["x"], {"p": {}, "q": {}, "r": {}}, arrows, []), [("lamp", None), (None, 2)])
+        self.assertEqual(log.paths(), [(3,)])
+        self.assertEqual(log.next_ones(), {"bell": (("above", 6), None), "lamp": (("from", 2), None)})
+        self.assertEqual(log.more("bell").paths()[0], (3, 0, 1, 2))
+
     def test_a_clock_that_nothing_begins(self):
         watcher = Watcher(["x", "y"], {"p": {"y": ("below", 7)}}, [("p", "a", [], ["y"], "p")], [])
         log = Log(watcher, [("a", 5), (None, 9)])
@@ -550,6 +558,7 @@ class ErrorsTest(unittest.TestCase):
             self.assertEqual(error.__class__.__name__, "Looped")
             told = [watcher.arrows()[number] for number in error.arrows]
             self.assertIsInstance(error.arrows, tuple)
+            self.assertTrue(error.arrows)
             for one, other in zip(told, told[1:] + told[:1]):
                 self.assertEqual((one[1], one[4]), (None, other[0]))
 
@@ -602,6 +611,7 @@ class ErrorsTest(unittest.TestCase):
         self.check_named(log, "NoPlace", "name", [log.at, log.shown], lambda thing: False)
         self.check_named(log, "NoClock", "clock", [log.worth], lambda thing: False)
         self.check_named(log, "NoEntry", "index", [log.time_of], lambda thing: thing in (0, 1))
+        self.assertEqual(fault(lambda: log.time_of(2)), ("NoEntry", 2))
         arrows = [log.went, log.time_gone, lambda arrow: log.went_ahead(arrow, None), lambda arrow: log.went_ahead(1, arrow)]
         self.check_named(log, "NoArrow", "arrow", arrows, lambda thing: thing in (0, 1, 2))
         self.check_named(log.more("lamp"), "BadPath", "thing", [log.more("lamp").table, log.more("lamp").barred],

@@ -358,8 +358,33 @@ class LapsTest(unittest.TestCase):
             error = error_of(lambda: laps(watcher, ((1, 0),), thing))
             self.assertEqual((error.__class__.__name__, error.thing is thing), ("BadNumber", True))
 
-    def test_runs_stay_by_the_mean(self):
-        # A run of whole rounds is the surest one to come near the mean: so the number of [82] is that of the way there.
+    def test_runs_take_no_less_than_the_mean_and_no_more_than_the_slow_one(self):
+        # A leap that is none of a round is gone once at most; of the others heights show what they can take together.
+        rolls = random.Random(8)
+        for _ in range(60):
+            watcher, rounds = random_round(rolls)
+            told = leaps(watcher)
+            mean, slow = fastest(watcher)[0], slowest(watcher)[0]
+            heights = fast_heights(watcher, mean)
+            tall = max(abs(fraction(height)) for height in heights.values())
+            number = 2 * tall * (len(told) + 1) + sum(len(leap[1]) for leap in told) * (fraction(mean) + fraction(slow or (0, 1)))
+            is_endless = any(leap[3] is None for leap in told)
+            if slow is not None:
+                tall = max(abs(fraction(height)) for height in slow_heights(watcher, slow).values())
+                number += 2 * tall * (len(told) + 1) + sum(leap[3][1] for leap in told if leap[3] is not None)
+            start, arrows, least, most = None, 0, 0, 0
+            for _ in range(40):
+                ahead = [leap for leap in told if leap[0] == start]
+                if not ahead:
+                    break
+                leap = rolls.choice(ahead)
+                start, arrows, least = leap[1][-1], arrows + len(leap[1]), least + leap[2][1]
+                self.assertGreaterEqual(least, arrows * fraction(mean) - number)
+                if not is_endless:
+                    most += leap[3][1]
+                    self.assertLessEqual(most, arrows * fraction(slow) + number)
+
+    def test_whole_rounds_come_near_the_mean(self):
         rolls = random.Random(7)
         for _ in range(40):
             watcher, rounds = random_round(rolls)
